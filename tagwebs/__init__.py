@@ -1,0 +1,1 @@
+"""Tagwebs: games of tag on webs, decided for all ways of running."""

@@ -1,0 +1,120 @@
+"""What the tests share: webs to try, and a check of errors with their attributes."""
+
+import copy
+import random
+import unittest
+
+from tagwebs.errors import TagError
+from tagwebs.webs import Web
+
+
+class Case(unittest.TestCase):
+    def fails(self, error, call, *args, **more):
+        """The call raises an error of just this class with just these attributes, and changes no argument."""
+        before = copy.deepcopy((args, more))
+        with self.assertRaises(TagError) as caught:
+            call(*args, **more)
+        self.assertIs(type(caught.exception), type(error))
+        self.assertEqual(vars(caught.exception), vars(error))
+        self.assertEqual((args, more), before)
+
+    def keeps(self, call, *args, **more):
+        """The call changes no argument and answers the same again after its answer has been changed."""
+        before = copy.deepcopy((args, more))
+        result = call(*args, **more)
+        self.assertEqual((args, more), before)
+        if isinstance(result, list):
+            wanted = list(result)
+            result.append("changed from outside")
+            result.reverse()
+            self.assertEqual(call(*args, **more), wanted)
+            return wanted
+        return result
+
+    def holds(self, call, *args):
+        """The call gives the same for lists and for tuples in place of them, and changes none of them."""
+        lists = [list(arg) if isinstance(arg, (list, tuple)) else arg for arg in args]
+        tuples = [tuple(arg) if isinstance(arg, (list, tuple)) else arg for arg in args]
+        result = self.keeps(call, *lists)
+        self.assertEqual(self.keeps(call, *tuples), result)
+        return result
+
+
+def passages(web):
+    """All passages of a web, as triples (beat, first, second)."""
+    count = len(web)
+    return {
+        (beat, u, v)
+        for beat in range(web.beats)
+        for u in range(count)
+        for v in range(count)
+        if web.leads(u, v, beat)
+    }
+
+
+def web_of(count, beats, found):
+    """The web of letters with these triples as its passages."""
+    names = "abcdefgh"[:count]
+    when = {}
+    for beat, u, v in sorted(found):
+        when.setdefault((u, v), []).append(beat)
+    ties = [(names[u], names[v], "one", tuple(those)) for (u, v), those in when.items()]
+    return Web(list(names), ties, beats=beats)
+
+
+def line(count, beats=1):
+    """The web of letters in which each place is tied to the next."""
+    names = "abcdefgh"[:count]
+    return Web.tied(list(names), list(zip(names, names[1:])), beats=beats)
+
+
+def ring(count, beats=1):
+    """The web of letters whose places are tied to a ring."""
+    names = "abcdefgh"[:count]
+    return Web.tied(list(names), list(zip(names, names[1:])) + [(names[-1], names[0])], beats=beats)
+
+
+def full(count, beats=1):
+    """The web of letters in which every two places are tied."""
+    names = "abcdefgh"[:count]
+    pairs = [(names[u], names[v]) for u in range(count) for v in range(u + 1, count)]
+    return Web.tied(list(names), pairs, beats=beats)
+
+
+def oneway(count, beats=1):
+    """The web of letters whose passages lead round a ring in one direction."""
+    found = {(beat, u, (u + 1) % count) for beat in range(beats) for u in range(count)}
+    return web_of(count, beats, found)
+
+
+def some_web(chance, count, beats, share):
+    """A web in which each passage is there with a share of ten."""
+    found = {
+        (beat, u, v)
+        for beat in range(beats)
+        for u in range(count)
+        for v in range(count)
+        if u != v and chance.randrange(10) < share
+    }
+    return web_of(count, beats, found)
+
+
+def some_plain(chance, count, share, beats=1):
+    """A plain web in which each tie is there with a share of ten."""
+    names = "abcdefgh"[:count]
+    pairs = [(names[u], names[v]) for u in range(count) for v in range(u + 1, count)]
+    return Web.tied(list(names), [pair for pair in pairs if chance.randrange(10) < share], beats=beats)
+
+
+def many_webs(seed, number, most_places=5, most_beats=3):
+    """A list of different kinds of webs, always the same ones for a seed."""
+    chance = random.Random(seed)
+    webs = []
+    for at in range(number):
+        count = 1 + chance.randrange(most_places)
+        beats = 1 + chance.randrange(most_beats)
+        if at % 3 == 0:
+            webs.append(some_plain(chance, count, 2 + chance.randrange(7), beats))
+        else:
+            webs.append(some_web(chance, count, beats, 1 + chance.randrange(8)))
+    return webs

@@ -1,0 +1,68 @@
+"""Every name of the interface stands in its own file, each method in the body of its own class."""
+
+import ast
+import importlib
+import inspect
+import pathlib
+import unittest
+
+ROOT = pathlib.Path(__file__).resolve().parent.parent / "tagwebs"
+
+FUNCTIONS = {
+    "names": {"is_name": "(text)"},
+    "sets": {"is_set": "(places, count)"},
+    "reaching": {
+        "reach": "(web, beat, starts, barred)", "rim": "(web, places)", "pieces": "(web, barred)",
+        "touch": "(web, first, second)", "is_joined": "(web)",
+    },
+    "products": {"box": "(first, second)", "strong": "(first, second)"},
+    "webtext": {"web_text": "(web)", "read_web": "(text)"},
+}
+
+CLASSES = {
+    ("webs", "Web"): {
+        "__init__": "(self, places, ties, *, beats=1)", "plain": "property", "doorless": "property",
+        "index": "(self, name)", "leads": "(self, first, second, beat)", "steps": "(self, place, beat)",
+        "ties": "(self)", "within": "(self, other)", "turned": "(self, count)", "unrolled": "(self, times)",
+        "backward": "(self)", "restricted": "(self, places)", "renamed": "(self, names)",
+        "tied": "(cls, places, pairs, *, beats=1)", "letters": "(count)", "__len__": "(self)", "__iter__": "(self)",
+        "__contains__": "(self, name)", "__eq__": "(self, other)", "__or__": "(self, other)",
+        "__and__": "(self, other)", "__sub__": "(self, other)",
+    },
+}
+
+
+def shape(call):
+    """The parameters of a function as the interface writes them."""
+    return str(inspect.signature(call))
+
+
+class Interface(unittest.TestCase):
+    def test_functions(self):
+        for module, functions in FUNCTIONS.items():
+            defined = self.defined(module, ast.FunctionDef)
+            for name, wanted in functions.items():
+                self.assertIn(name, defined)
+                self.assertEqual(shape(getattr(importlib.import_module(f"tagwebs.{module}"), name)), wanted, name)
+
+    def test_classes(self):
+        for (module, name), methods in CLASSES.items():
+            node = self.defined(module, ast.ClassDef)[name]
+            made = getattr(importlib.import_module(f"tagwebs.{module}"), name)
+            body = {part.name: part for part in node.body if isinstance(part, ast.FunctionDef)}
+            for method, wanted in methods.items():
+                self.assertIn(method, body, name)
+                found = inspect.getattr_static(made, method)
+                if wanted == "property":
+                    self.assertIsInstance(found, property)
+                    continue
+                call = getattr(found, "__func__", found)
+                self.assertEqual(shape(call), wanted, (name, method))
+
+    def defined(self, module, kind):
+        tree = ast.parse((ROOT / f"{module}.py").read_text())
+        return {node.name: node for node in tree.body if isinstance(node, kind)}
+
+
+if __name__ == "__main__":
+    unittest.main()
