@@ -17,6 +17,15 @@ FUNCTIONS = {
     },
     "products": {"box": "(first, second)", "strong": "(first, second)"},
     "webtext": {"web_text": "(web)", "read_web": "(text)"},
+    "standings": {
+        "now_places": "(game, standing)", "is_standing": "(game, standing)", "first_standings": "(game, post)",
+        "answers": "(game, standing, post)", "standings": "(game, *, most=6000)",
+    },
+    "deciding": {"decide": "(game, *, most=6000)", "rank_from": "(game, standing, *, most=6000)"},
+    "leasts": {
+        "least": "(web, *, travel='walk', pace='step', late=0, most=6000)", "least_numbers": "(web, *, most=6000)",
+    },
+    "corners": {"covers": "(web, left, u, v)", "fold_up": "(web)"},
 }
 
 CLASSES = {
@@ -28,6 +37,32 @@ CLASSES = {
         "tied": "(cls, places, pairs, *, beats=1)", "letters": "(count)", "__len__": "(self)", "__iter__": "(self)",
         "__contains__": "(self, name)", "__eq__": "(self, other)", "__or__": "(self, other)",
         "__and__": "(self, other)", "__sub__": "(self, other)",
+    },
+    ("games", "Game"): {
+        "__init__": "(self, web, seekers, *, travel='walk', pace='step', late=0)", "changed": "(self, **more)",
+        "posts": "(self)", "is_post": "(self, post)", "sends": "(self, beat, post)",
+        "runs": "(self, beat, post, sent, place)", "spread": "(self, beat, post, sent, places)",
+        "__eq__": "(self, other)",
+    },
+    ("tables", "Table"): {
+        "__init__": "(self, game, *, most=6000)", "rank": "(self, standing)", "longest": "(self, post)",
+        "__len__": "(self)", "__iter__": "(self)", "__contains__": "(self, standing)",
+    },
+    ("papers", "Paper"): {},
+    ("papers", "Ranks"): {
+        "__init__": "(self, game, first, rows)", "rank": "(self, standing)", "send": "(self, standing)",
+        "rows": "(self)", "pruned": "(self)", "told": "(self)", "__len__": "(self)", "__iter__": "(self)",
+        "__contains__": "(self, standing)", "__eq__": "(self, other)",
+    },
+    ("papers", "Lot"): {
+        "__init__": "(self, game, standings)", "entry": "(self, post)", "answer": "(self, standing, post)",
+        "rows": "(self)", "told": "(self)", "__len__": "(self)", "__iter__": "(self)",
+        "__contains__": "(self, standing)", "__eq__": "(self, other)",
+    },
+    ("leasts", "Least"): {},
+    ("corners", "Folding"): {
+        "__init__": "(self, web, folds)", "whole": "property", "finished": "property",
+        "shadow": "(self, level, place)", "chase": "(self, seeker, runner)", "__eq__": "(self, other)",
     },
 }
 
@@ -58,6 +93,10 @@ class Interface(unittest.TestCase):
                     continue
                 call = getattr(found, "__func__", found)
                 self.assertEqual(shape(call), wanted, (name, method))
+
+    def test_papers_stand_under_paper(self):
+        papers = importlib.import_module("tagwebs.papers")
+        self.assertEqual((papers.Ranks.__bases__, papers.Lot.__bases__), ((papers.Paper,), (papers.Paper,)))
 
     def defined(self, module, kind):
         tree = ast.parse((ROOT / f"{module}.py").read_text())
