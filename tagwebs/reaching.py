@@ -22,6 +22,11 @@ def reached(web, beat, starts, barred):
     return tuple(sorted(found))
 
 
+def around(web, places):
+    """The set of the places and of all to which a passage of the first beat leads from one of them."""
+    return tuple(sorted(set([other for place in places for other in web.steps(place, 0)])))
+
+
 def rim(web, places):
     """The set of those of the places into which a passage leads from a place that is not one of them."""
     check_places(web, places)
@@ -50,7 +55,8 @@ def touch(web, first, second):
     check_plain(web)
     check_places(web, first)
     check_places(web, second)
-    return any([other in web.steps(place, 0) for place in first for other in second])
+    near = around(web, first)
+    return any([place in near for place in second])
 
 
 def is_joined(web):

@@ -11,6 +11,7 @@ class Rounds:
         self.game = game
         self._posts = tuple(posts_of(game))
         self._sends = {}
+        self._ends = {}
         self._runs = {}
         self._spreads = {}
 
@@ -31,7 +32,11 @@ class Rounds:
         """The set of the places at which the runner can be after the round, not caught."""
         key = (beat, post, sent, place)
         if key not in self._runs:
-            self._runs[key] = runs_of(self.game, beat, post, sent, place)
+            # Many rounds bar the same places.
+            way = (beat, barred_of(self.game, post, sent), place)
+            if way not in self._ends:
+                self._ends[way] = ends_of(self.game, *way)
+            self._runs[key] = not_caught(self.game, sent, place, self._ends[way])
         return self._runs[key]
 
     def spread(self, beat, post, sent, places):
@@ -99,15 +104,24 @@ def with_one(post, place):
 
 def runs_of(game, beat, post, sent, place):
     """The set of the places at which the runner, now at this place, can be after the round, not caught."""
-    if game.travel == "walk":
-        # Those who walk have gone before the runner runs.
-        barred = sent
-        if place in sent:
-            return ()
-    else:
-        barred = tuple([held for held in post if held in sent])
+    return not_caught(game, sent, place, ends_of(game, beat, barred_of(game, post, sent), place))
+
+
+def barred_of(game, post, sent):
+    """The places to which the runner cannot run in a round: those who walk have gone before it runs."""
+    return sent if game.travel == "walk" else tuple([held for held in post if held in sent])
+
+
+def ends_of(game, beat, barred, place):
+    """The set of the places to which the runner can run from this one, but not through a barred place."""
     if game.pace == "swift":
-        ends = reached(game.web, beat, (place,), barred)
-    else:
-        ends = game.web.steps(place, beat)
+        return reached(game.web, beat, (place,), barred)
+    # All barred places are in the post that is sent, so a step to one of them is left to not_caught.
+    return game.web.steps(place, beat)
+
+
+def not_caught(game, sent, place, ends):
+    """Those of the ends at which the runner is not caught, none if those who walk come to its place first."""
+    if game.travel == "walk" and place in sent:
+        return ()
     return tuple([end for end in ends if end not in sent])

@@ -91,12 +91,7 @@ class Web:
 
     def restricted(self, places):
         """The web of some of the places, in the order passed."""
-        if len(places) == 0:
-            raise BadWeb("places", 0)
-        for at in range(len(places)):
-            check_place(self, places[at])
-            if places[at] in places[:at]:
-                raise UnknownPlace(places[at])
+        check_part(self, places)
         names = tuple([self.places[place] for place in places])
         return woven(names, [restricted_nexts(nexts, places) for nexts in self._nexts])
 
@@ -129,6 +124,16 @@ def check_names(places):
     for at in range(len(places)):
         if not is_name(places[at]) or places[at] in places[:at]:
             raise BadWeb("place", at)
+
+
+def check_part(web, places):
+    """Raise BadWeb or UnknownPlace unless these can be the places of a part of the web."""
+    if len(places) == 0:
+        raise BadWeb("places", 0)
+    for at in range(len(places)):
+        check_place(web, places[at])
+        if places[at] in places[:at]:
+            raise UnknownPlace(places[at])
 
 
 def check_ties(places, ties, beats):

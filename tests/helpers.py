@@ -3,6 +3,7 @@
 import copy
 import random
 import unittest
+from itertools import combinations, permutations
 
 from tagwebs.errors import TagError
 from tagwebs.webs import Web
@@ -10,13 +11,15 @@ from tagwebs.webs import Web
 
 class Case(unittest.TestCase):
     def fails(self, error, call, *args, **more):
-        """The call raises an error of just this class with just these attributes, and changes no argument."""
-        before = copy.deepcopy((args, more))
+        """The call raises an error of just this class with just these attributes; no argument and no object changes."""
+        held = getattr(call, "__self__", None)
+        own = {} if held is None or isinstance(held, type) else vars(held)
+        before = copy.deepcopy((args, more, own))
         with self.assertRaises(TagError) as caught:
             call(*args, **more)
         self.assertIs(type(caught.exception), type(error))
         self.assertEqual(vars(caught.exception), vars(error))
-        self.assertEqual((args, more), before)
+        self.assertEqual((args, more, own), before)
 
     def keeps(self, call, *args, **more):
         """The call changes no argument and answers the same again after its answer has been changed."""
@@ -104,6 +107,44 @@ def some_plain(chance, count, share, beats=1):
     names = "abcdefgh"[:count]
     pairs = [(names[u], names[v]) for u in range(count) for v in range(u + 1, count)]
     return Web.tied(list(names), [pair for pair in pairs if chance.randrange(10) < share], beats=beats)
+
+
+def every_plain(count, beats=1):
+    """All plain webs of so many places, one of those that differ in the order of the places only."""
+    pairs = list(combinations(range(count), 2))
+    orders = list(permutations(range(count)))
+    seen, webs = set(), []
+    for bits in range(2 ** len(pairs)):
+        tied = [pair for at, pair in enumerate(pairs) if bits >> at & 1]
+        if frozenset(tied) not in seen:
+            seen.update(frozenset(tuple(sorted((order[u], order[v]))) for u, v in tied) for order in orders)
+            names = "abcdefgh"[:count]
+            webs.append(Web.tied(list(names), [(names[u], names[v]) for u, v in tied], beats=beats))
+    return webs
+
+
+def every_doorless(count, beats=1):
+    """All doorless webs of so many places, one of those that differ in the order of the places only."""
+    pairs = list(permutations(range(count), 2))
+    orders = list(permutations(range(count)))
+    seen, webs = set(), []
+    for bits in range(2 ** len(pairs)):
+        found = [pair for at, pair in enumerate(pairs) if bits >> at & 1]
+        if frozenset(found) not in seen:
+            seen.update(frozenset((order[u], order[v]) for u, v in found) for order in orders)
+            webs.append(web_of(count, beats, {(beat, u, v) for u, v in found for beat in range(beats)}))
+    return webs
+
+
+def some_doorless(chance, count, share, beats=1):
+    """A doorless web in which each passage is there with a share of ten."""
+    found = [(u, v) for u, v in permutations(range(count), 2) if chance.randrange(10) < share]
+    return web_of(count, beats, {(beat, u, v) for u, v in found for beat in range(beats)})
+
+
+def subsets(places, most=8):
+    """All sets of at most so many of the places, in ascending order."""
+    return sorted(found for many in range(min(most, len(places)) + 1) for found in combinations(sorted(places), many))
 
 
 def many_webs(seed, number, most_places=5, most_beats=3):
