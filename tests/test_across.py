@@ -1,14 +1,19 @@
-"""Points [84] to [86]: what holds across games, on small webs."""
+"""Points [84] to [88]: what holds across games, on small webs."""
 
 import random
 import unittest
 
-from helpers import Case, full, line, many_webs, oneway, ring, some_web, web_of
+from helpers import Case, every_plain, full, line, many_webs, oneway, ring, some_plain, some_web, web_of
+from tagwebs.bagging import bag_answer, least_bags
+from tagwebs.bagpapers import bags_ranks, sides_lot
+from tagwebs.bags import Bags
+from tagwebs.clearing import least_row
 from tagwebs.deciding import decide
 from tagwebs.errors import TooMany
 from tagwebs.games import Game
 from tagwebs.leasts import least
 from tagwebs.papers import Lot, Ranks
+from tagwebs.reaching import is_joined
 
 ENDLESS = 10 ** 9
 LATER = (0, 1, 2, 3, None)
@@ -131,6 +136,59 @@ class Papers(Case):
                         kinds[Lot] += 1
                         self.assertEqual(Lot(wide, other.rows()).rows(), other.rows())
         self.assertGreater(min(kinds.values()), 5)
+
+    def test_papers_of_bags_and_sides(self):
+        for web in [ring(5), full(4, 2), line(6), some_plain(random.Random(125), 6, 5)]:
+            found = least_bags(web)
+            ranks = bags_ranks(found.bags)
+            self.assertEqual(Ranks(ranks.game.changed(pace="step"), ranks.first, ranks.rows()).rows(), ranks.rows())
+            narrow = web & line(len(web), web.beats)
+            self.assertEqual(len(Ranks(ranks.game.changed(web=narrow), ranks.first, ranks.rows())), len(ranks))
+            lot = sides_lot(found.sides)
+            wide = full(len(web), web.beats)
+            self.assertEqual(Lot(lot.game.changed(web=wide), lot.rows()).rows(), lot.rows())
+
+
+def joined_webs():
+    chance = random.Random(126)
+    webs = [web for count in (1, 2, 3, 4) for web in every_plain(count)]
+    webs += [ring(5), full(5, 2), line(6), *[some_plain(chance, 5, share) for share in (4, 6, 8)]]
+    return [web for web in webs if is_joined(web)]
+
+
+class PlainWebs(Case):
+    def test_told_late(self):
+        kinds = {Ranks: 0, Lot: 0}
+        for web in [*joined_webs(), *[web for web in every_plain(3) if not is_joined(web)]]:
+            for seekers in range(1, len(web) + 1):
+                game = Game(web, seekers, travel="fly", pace="swift")
+                seen = rounds(game, 20000)
+                self.assertIs(seen < ENDLESS, isinstance(bag_answer(web, seekers), Bags))
+                for late in range(1, 4):
+                    found = rounds(game.changed(late=late), 3000)
+                    if found is None:
+                        continue
+                    kinds[Lot if found == ENDLESS else Ranks] += 1
+                    self.assertIs(found == ENDLESS, seen == ENDLESS)
+                    if found < ENDLESS:
+                        self.assertLessEqual(found, (late + 1) * seen)
+        self.assertGreater(min(kinds.values()), 15)
+
+    def test_those_who_walk_are_not_more_than_those_who_fly(self):
+        told = 0
+        for web in joined_webs():
+            bags, row = least_bags(web).number, least_row(web).number
+            self.assertLessEqual(bags, row)
+            self.assertLessEqual(least(web).number, 1 + (bags - 1) // 2)
+            if bags <= 4:
+                self.assertLessEqual(least(web, pace="swift", most=20000).number, bags)
+            if row <= 4:
+                try:
+                    self.assertLessEqual(least(web, pace="swift", late=None, most=20000).number, row)
+                except TooMany:
+                    continue
+                told += 1
+        self.assertGreater(told, 8)
 
 
 if __name__ == "__main__":

@@ -26,6 +26,24 @@ FUNCTIONS = {
         "least": "(web, *, travel='walk', pace='step', late=0, most=6000)", "least_numbers": "(web, *, most=6000)",
     },
     "corners": {"covers": "(web, left, u, v)", "fold_up": "(web)"},
+    "chasing": {"folding_ranks": "(folding)", "folding_lot": "(folding)"},
+    "bags": {"bags_of": "(web, order)"},
+    "bagging": {"bag_answer": "(web, seekers)", "least_bags": "(web)"},
+    "bagpapers": {"bags_ranks": "(bags, root=0)", "sides_lot": "(sides)"},
+    "bagparts": {"cut_bags": "(bags, places)", "carry_sides": "(web, places, sides)"},
+    "rows": {"row_of": "(web, order)"},
+    "shuts": {"clean_sets": "(web, seekers)"},
+    "clearing": {"row_answer": "(web, seekers)", "least_row": "(web)"},
+    "rowpapers": {"row_ranks": "(row)", "shut_lot": "(shut)"},
+    "rowparts": {
+        "row_bags": "(row)", "sides_blocking": "(sides)", "cut_row": "(row, places)",
+        "carry_shut": "(web, places, shut)",
+    },
+    "threats": {"all_threats": "(game, *, most=1000)"},
+    "unseen": {
+        "shortest_plan": "(game, *, most=6000)", "possible_after": "(game, posts)", "tracks": "(game, posts)",
+    },
+    "lateness": {"lateness": "(game, *, most=6000)"},
 }
 
 CLASSES = {
@@ -64,6 +82,32 @@ CLASSES = {
         "__init__": "(self, web, folds)", "whole": "property", "finished": "property",
         "shadow": "(self, level, place)", "chase": "(self, seeker, runner)", "__eq__": "(self, other)",
     },
+    ("bags", "Bags"): {
+        "__init__": "(self, web, bags, links)", "size": "property", "toward": "(self, index, place)",
+        "height": "(self, index, away)", "depth": "(self, index)", "__eq__": "(self, other)",
+    },
+    ("sides", "Sides"): {
+        "__init__": "(self, web, seekers, rows)", "side": "(self, post)", "rows": "(self)", "__len__": "(self)",
+        "__eq__": "(self, other)",
+    },
+    ("bagging", "LeastBags"): {},
+    ("rows", "Row"): {
+        "__init__": "(self, web, bags)", "size": "property", "clean": "(self, index)", "__eq__": "(self, other)",
+    },
+    ("shuts", "Shut"): {
+        "__init__": "(self, web, seekers, sets)", "__len__": "(self)", "__iter__": "(self)",
+        "__contains__": "(self, places)", "__eq__": "(self, other)",
+    },
+    ("shuts", "Blocking"): {
+        "__init__": "(self, web, seekers, sets)", "__len__": "(self)", "__iter__": "(self)",
+        "__contains__": "(self, places)", "__eq__": "(self, other)",
+    },
+    ("clearing", "LeastRow"): {},
+    ("threats", "Threats"): {
+        "__init__": "(self, game, rows)", "free": "property", "of": "(self, beat, post)",
+        "escapes": "(self, beat, post, places)", "__len__": "(self)", "__iter__": "(self)",
+    },
+    ("lateness", "Lateness"): {},
 }
 
 
@@ -97,6 +141,13 @@ class Interface(unittest.TestCase):
     def test_papers_stand_under_paper(self):
         papers = importlib.import_module("tagwebs.papers")
         self.assertEqual((papers.Ranks.__bases__, papers.Lot.__bases__), ((papers.Paper,), (papers.Paper,)))
+
+    def test_blocking_stands_under_shut(self):
+        shuts = importlib.import_module("tagwebs.shuts")
+        self.assertEqual((shuts.Shut.__bases__, shuts.Blocking.__bases__), ((object,), (shuts.Shut,)))
+
+    def test_tracks_is_a_generator(self):
+        self.assertTrue(inspect.isgeneratorfunction(importlib.import_module("tagwebs.unseen").tracks))
 
     def defined(self, module, kind):
         tree = ast.parse((ROOT / f"{module}.py").read_text())

@@ -2,6 +2,7 @@
 
 import ast
 import builtins
+import functools
 import pathlib
 import unittest
 
@@ -27,8 +28,8 @@ WORDS = ("typing", "enum", "Enum", "Flag", "Generic", "Protocol", "ABC", "namedt
 DUNDERS = set("__init__ __eq__ __len__ __iter__ __contains__ __or__ __and__ __sub__ __call__".split())
 PLAIN = (ast.Constant, ast.Tuple, ast.List, ast.Dict, ast.UnaryOp, ast.USub, ast.Load)
 BANNED = (
-    ast.Try, ast.With, ast.AsyncFunctionDef, ast.Await, ast.Global, ast.Nonlocal, ast.GeneratorExp, ast.Yield,
-    ast.YieldFrom, ast.AnnAssign, ast.Import, ast.Div, ast.Match, ast.NamedExpr, ast.Delete, ast.Assert,
+    ast.Try, ast.With, ast.AsyncFunctionDef, ast.Await, ast.Global, ast.Nonlocal, ast.GeneratorExp, ast.YieldFrom,
+    ast.AnnAssign, ast.Import, ast.Div, ast.Match, ast.NamedExpr, ast.Delete, ast.Assert,
 )
 
 
@@ -36,6 +37,7 @@ def files():
     return sorted(ROOT.rglob("*.py"))
 
 
+@functools.cache
 def trees():
     return [(path.name, ast.parse(path.read_text())) for path in files()]
 
@@ -224,6 +226,47 @@ class Parts(unittest.TestCase):
                     looped = isinstance(above, (ast.For, ast.comprehension)) and above.iter is node
                     called = isinstance(above, ast.Call) and isinstance(above.func, ast.Name)
                     self.assertTrue(looped or called, (name, node.lineno))
+
+    def test_l23_generators(self):
+        yielding = {}
+        for name, node in nodes(ast.FunctionDef):
+            if any(isinstance(part, ast.Yield) for part in ast.walk(node)):
+                yielding[node.name] = name
+                stated = [part for part in ast.walk(node) if isinstance(part, ast.Expr) and isinstance(part.value, ast.Yield)]
+                self.assertEqual(len(stated), len([part for part in ast.walk(node) if isinstance(part, ast.Yield)]), name)
+                self.assertEqual(node.decorator_list, [])
+                self.assertFalse([part for part in ast.walk(node) if isinstance(part, ast.Return) and part.value])
+                lazy = [part.id for part in ast.walk(node) if isinstance(part, ast.Name)]
+                self.assertFalse([word for word in lazy if word in ("zip", "enumerate", "reversed", "next", "iter")], name)
+        self.assertEqual(yielding, {"tracks": "unseen.py"})
+        names = [node.name for _, node in nodes(ast.FunctionDef)]
+        self.assertEqual([names.count(name) for name in yielding], [1])
+        # Nothing in the package asks it, and StopIteration is not named beside it.
+        words = [node.id for _, node in nodes(ast.Name)] + [node.attr for _, node in nodes(ast.Attribute)]
+        self.assertFalse([word for word in words if word in [*yielding, "StopIteration"]])
+
+    def test_l23_lazy_things_are_not_passed_on(self):
+        taking = set("list tuple dict sorted sum any all enumerate zip min max".split())
+        for name, tree in trees():
+            parents = parents_of(tree)
+            for node in ast.walk(tree):
+                if not isinstance(node, ast.Call):
+                    continue
+                lazy = isinstance(node.func, ast.Name) and node.func.id in ("zip", "enumerate", "range", "reversed")
+                if lazy or (isinstance(node.func, ast.Attribute) and node.func.attr in ("items", "keys", "values")):
+                    above = parents[node]
+                    if isinstance(above, ast.Call):
+                        self.assertIn(above.func.id, taking, (name, node.lineno))
+                        self.assertIs(above.args[0], node, (name, node.lineno))
+
+    def test_l13_lambdas(self):
+        lines = [(name, node.lineno) for name, node in nodes(ast.Lambda)]
+        self.assertEqual(len(lines), len(set(lines)))
+
+    def test_l27_exponents(self):
+        for name, node in nodes(ast.BinOp):
+            if isinstance(node.op, ast.Pow):
+                self.assertIsInstance(node.right, ast.Constant, (name, node.lineno))
 
     def test_l24_sets(self):
         for name, tree in trees():
