@@ -1,31 +1,41 @@
 """What the tests share: webs to try, and a check of errors with their attributes."""
 
-import copy
 import random
 import unittest
 from itertools import combinations, permutations
 
 from tagwebs.errors import TagError
+from tagwebs.joins import Join
 from tagwebs.webs import Web
+
+
+def content(value):
+    """All that is in a value, that of objects included, so that it can be compared with what is in it later."""
+    if isinstance(value, (list, tuple)):
+        return [type(value).__name__, *[content(part) for part in value]]
+    if isinstance(value, dict):
+        return ["dict", *[(content(key), content(part)) for key, part in value.items()]]
+    if type(value).__module__.startswith("tagwebs."):
+        return [type(value).__name__, content(vars(value))]
+    return value
 
 
 class Case(unittest.TestCase):
     def fails(self, error, call, *args, **more):
         """The call raises an error of just this class with just these attributes; no argument and no object changes."""
         held = getattr(call, "__self__", None)
-        own = {} if held is None or isinstance(held, type) else vars(held)
-        before = copy.deepcopy((args, more, own))
+        before = content((args, more, held))
         with self.assertRaises(TagError) as caught:
             call(*args, **more)
         self.assertIs(type(caught.exception), type(error))
         self.assertEqual(vars(caught.exception), vars(error))
-        self.assertEqual((args, more, own), before)
+        self.assertEqual(content((args, more, held)), before)
 
     def keeps(self, call, *args, **more):
         """The call changes no argument and answers the same again after its answer has been changed."""
-        before = copy.deepcopy((args, more))
+        before = content((args, more))
         result = call(*args, **more)
-        self.assertEqual((args, more), before)
+        self.assertEqual(content((args, more)), before)
         if isinstance(result, list):
             wanted = list(result)
             result.append("changed from outside")
@@ -145,6 +155,33 @@ def some_doorless(chance, count, share, beats=1):
 def subsets(places, most=8):
     """All sets of at most so many of the places, in ascending order."""
     return sorted(found for many in range(min(most, len(places)) + 1) for found in combinations(sorted(places), many))
+
+
+def renamed(web):
+    """The web with names that no other web here has."""
+    return web.renamed(list("stuvwxyz")[: len(web)])
+
+
+def joins_of(first, second, at=0, to=0):
+    """A join of each kind of two webs, without those that would have too many places."""
+    second = renamed(second)
+    joins = []
+    if len(first) + len(second) <= 8:
+        joins += [Join.apart(first, second), Join.crossed(first, second), Join.tied(first, at, second, to)]
+    if len(first) + len(second) <= 9:
+        joins.append(Join.hung(first, at, second, to))
+    return joins
+
+
+def some_joins(chance, make, number, most_places=3):
+    """Joins of all kinds of webs that make(count, share, beats) gives."""
+    joins = []
+    for _ in range(number):
+        beats = 1 + chance.randrange(2)
+        first = make(1 + chance.randrange(most_places), 2 + chance.randrange(7), beats)
+        second = make(1 + chance.randrange(most_places), 2 + chance.randrange(7), beats)
+        joins += joins_of(first, second, chance.randrange(len(first)), chance.randrange(len(second)))
+    return joins
 
 
 def many_webs(seed, number, most_places=5, most_beats=3):

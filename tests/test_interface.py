@@ -44,6 +44,14 @@ FUNCTIONS = {
         "shortest_plan": "(game, *, most=6000)", "possible_after": "(game, posts)", "tracks": "(game, posts)",
     },
     "lateness": {"lateness": "(game, *, most=6000)"},
+    "joinbags": {"join_bags": "(join, first, second)", "join_sides": "(join, seekers, first, second)"},
+    "joinrows": {"join_row": "(join, first, second)", "join_shut": "(join, seekers, first, second)"},
+    "joinplays": {"apart_ranks": "(join, first, second)", "apart_lot": "(join, first, second, *, pace='step')"},
+    "sums": {
+        "sum_bags": "(join)", "sum_row": "(join)",
+        "sum_least": "(join, *, travel='walk', pace='step', late=0, most=6000)",
+    },
+    "plantext": {"plan_text": "(plan)", "read_plan": "(text)"},
 }
 
 CLASSES = {
@@ -108,6 +116,15 @@ CLASSES = {
         "escapes": "(self, beat, post, places)", "__len__": "(self)", "__iter__": "(self)",
     },
     ("lateness", "Lateness"): {},
+    ("joins", "Join"): {
+        "apart": "(cls, first, second)", "hung": "(cls, first, at, second, to)", "tied": "(cls, first, at, second, to)",
+        "crossed": "(cls, first, second)", "firsts": "property", "seconds": "property", "of_first": "(self, place)",
+        "of_second": "(self, place)", "sources": "(self, place)",
+    },
+    ("plans", "Plan"): {
+        "__init__": "(self, opening, states)", "start": "property", "__call__": "(self, state, told)", "__len__": "(self)",
+        "__eq__": "(self, other)",
+    },
 }
 
 
