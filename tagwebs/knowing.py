@@ -66,6 +66,12 @@ def now_at(rounds, standing):
     return places
 
 
+def told_place(game, standing):
+    """The place that the seekers are told in a standing, or None."""
+    _, trail, places = standing
+    return None if game.late is None or len(trail) <= game.late else places[0]
+
+
 def starts_of(game, post):
     """The ascending list of the standings at moment 0 with this post."""
     return split_places(game, 0, (post,), free_places(game, post))

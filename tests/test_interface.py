@@ -4,9 +4,11 @@ import ast
 import importlib
 import inspect
 import pathlib
+import re
 import unittest
 
 ROOT = pathlib.Path(__file__).resolve().parent.parent / "tagwebs"
+DOCUMENT = ROOT.parent.parent / "shared" / "DOC.md"
 
 FUNCTIONS = {
     "names": {"is_name": "(text)"},
@@ -52,6 +54,17 @@ FUNCTIONS = {
         "sum_least": "(join, *, travel='walk', pace='step', late=0, most=6000)",
     },
     "plantext": {"plan_text": "(plan)", "read_plan": "(text)"},
+    "positions": {
+        "check_plan": "(game, plan)", "first_positions": "(game, plan)", "next_positions": "(game, plan, position)",
+    },
+    "judging": {"judge": "(game, plan, *, most=6000)", "is_escape": "(game, plan, stem, ring)"},
+    "compiling": {"compiled": "(ranks)"},
+    "shortening": {"shortened": "(plan)", "alike": "(first, second)"},
+    "commands": {
+        "play": "(desk, text, *, whole=False)", "would": "(desk, text)", "replay": "(game, rows, *, memory=50)",
+    },
+    "following": {"seek": "(desk, ranks)", "evade": "(desk, lot)", "obey": "(desk, plan, state=None)"},
+    "ledgers": {"ledger": "(desk)"},
 }
 
 CLASSES = {
@@ -125,6 +138,15 @@ CLASSES = {
         "__init__": "(self, opening, states)", "start": "property", "__call__": "(self, state, told)", "__len__": "(self)",
         "__eq__": "(self, other)",
     },
+    ("judging", "Verdict"): {},
+    ("judging", "Sure"): {"rank": "(self, position)", "told": "(self)", "__len__": "(self)"},
+    ("judging", "Escape"): {"where": "(self, moment)", "told": "(self)"},
+    ("desks", "Desk"): {
+        "__init__": "(self, game, *, memory=50)", "turn": "property", "played": "property", "beat": "property",
+        "here": "property", "sent": "property", "runner": "property", "knows": "property", "heard": "property",
+        "possible": "property", "log": "property", "caught": "property", "begin": "(self, post)", "hide": "(self, place)",
+        "send": "(self, post)", "run": "(self, place)", "undo": "(self)", "redo": "(self)",
+    },
 }
 
 
@@ -162,6 +184,21 @@ class Interface(unittest.TestCase):
     def test_blocking_stands_under_shut(self):
         shuts = importlib.import_module("tagwebs.shuts")
         self.assertEqual((shuts.Shut.__bases__, shuts.Blocking.__bases__), ((object,), (shuts.Shut,)))
+
+    def test_verdicts_stand_under_verdict(self):
+        judging = importlib.import_module("tagwebs.judging")
+        self.assertEqual((judging.Sure.__bases__, judging.Escape.__bases__), ((judging.Verdict,), (judging.Verdict,)))
+
+    def test_the_interface_is_that_of_the_document(self):
+        text = DOCUMENT.read_text() if DOCUMENT.exists() else ""
+        parts = text.partition("# The interface")[2].split("\n## tagwebs/")[1:]
+        for part in parts:
+            module = part.partition(".py")[0]
+            named = set(re.findall(r"`([a-z_]+)\([^`]*\)`", part.partition("```")[0]))
+            listed = set(FUNCTIONS.get(module, {}))
+            listed |= {method for (file, _), methods in CLASSES.items() if file == module for method in methods}
+            # A plan itself is called.
+            self.assertLessEqual(named - listed - {"plan"}, set(), module)
 
     def test_tracks_is_a_generator(self):
         self.assertTrue(inspect.isgeneratorfunction(importlib.import_module("tagwebs.unseen").tracks))

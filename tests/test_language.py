@@ -28,7 +28,7 @@ WORDS = ("typing", "enum", "Enum", "Flag", "Generic", "Protocol", "ABC", "namedt
 DUNDERS = set("__init__ __eq__ __len__ __iter__ __contains__ __or__ __and__ __sub__ __call__".split())
 PLAIN = (ast.Constant, ast.Tuple, ast.List, ast.Dict, ast.UnaryOp, ast.USub, ast.Load)
 BANNED = (
-    ast.Try, ast.With, ast.AsyncFunctionDef, ast.Await, ast.Global, ast.Nonlocal, ast.GeneratorExp, ast.YieldFrom,
+    ast.With, ast.AsyncFunctionDef, ast.Await, ast.Global, ast.Nonlocal, ast.GeneratorExp, ast.YieldFrom,
     ast.AnnAssign, ast.Import, ast.Div, ast.Match, ast.NamedExpr, ast.Delete, ast.Assert,
 )
 
@@ -194,7 +194,19 @@ class Parts(unittest.TestCase):
             self.assertIsInstance(node.exc, ast.Call)
             self.assertIsInstance(node.exc.func, ast.Name)
             self.assertIn(node.exc.func.id, errors)
-            self.assertEqual((node.exc.keywords, node.cause), ([], None))
+            self.assertEqual(node.exc.keywords, [])
+            if node.cause is not None:
+                self.assertIn((name, node.cause.id), [("commands.py", "why")])
+
+    def test_l19_try(self):
+        for name, node in nodes(ast.Try):
+            self.assertEqual((len(node.handlers), node.orelse, node.finalbody), (1, [], []))
+            handler = node.handlers[0]
+            self.assertEqual((handler.type.id, handler.name, len(handler.body)), ("TagError", "why", 1))
+            # Only calls of own functions stand in it.
+            self.assertEqual([type(part.value) for part in node.body], [ast.Call], name)
+            stored = [part.id for part in ast.walk(dict(trees())[name]) if isinstance(part, ast.Name) and part.id == "why"]
+            self.assertEqual(len(stored), 2)
 
     def test_l20_is(self):
         for name, node in nodes(ast.Compare):
