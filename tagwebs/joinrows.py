@@ -19,16 +19,10 @@ def join_row(join, first, second):
     bags = [old_numbers(join.firsts, bag) for bag in first.bags]
     bags.extend([old_numbers(join.seconds, bag) for bag in second.bags])
     if join.kind != "apart":
-        start = indexes(first.bags, join.at)[0]
-        bags = with_place(bags, join.at, start, len(first.bags) + last_held(join, second))
+        # The place of the first web is held until the place of the second web comes, so that both are in one bag.
+        end = len(first.bags) + indexes(second.bags, join.to)[0]
+        bags = with_place(bags, join.at, indexes(first.bags, join.at)[0], end)
     return Row(join.web, bags)
-
-
-def last_held(join, second):
-    """The index of the bag of the second row up to which the place of the first web is held that joins the two."""
-    own = indexes(second.bags, join.to)
-    # A place made of two must be in all bags of both; where passages are added, one bag with both ends is enough.
-    return own[-1] if join.kind == "hung" else own[0]
 
 
 def with_place(bags, place, start, end):

@@ -21,7 +21,7 @@ class Sure(Verdict):
     def __init__(self, game, plan, ranks, rounds):
         super().__init__(game, plan)
         self.rounds = rounds
-        self._ranks = dict(ranks)
+        self._ranks = {position: ranks[position] for position in ranks}
 
     def __len__(self):
         return len(self._ranks)

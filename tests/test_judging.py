@@ -127,8 +127,8 @@ class Judge(Case):
 
     def test_all(self):
         kinds = {Sure: 0, Escape: 0}
-        longest = 0
-        for game, plan in judged_plans(411, 160):
+        longest, varied = 0, 0
+        for game, plan in judged_plans(411, 250):
             nexts = all_positions(game, plan)
             ranks = worth(nexts)
             verdict = judge(game, plan)
@@ -146,6 +146,10 @@ class Judge(Case):
             self.assertTrue(is_way_out(game, plan, list(verdict.stem), list(verdict.ring)))
             self.assertTrue(is_escape(game, plan, verdict.stem, verdict.ring))
             self.assertTrue(is_escape(game, plan, list(verdict.stem), list(verdict.ring)))
+            places = [*verdict.stem, *verdict.ring * 9]
+            self.assertEqual([verdict.where(moment) for moment in range(9)], places[:9])
+            varied += len(verdict.stem) % len(verdict.ring) > 0 and len(set(places)) > 1
+        self.assertGreater(varied, 5)
         self.assertGreater(min(kinds.values()), 20)
         self.assertGreater(longest, 3)
 

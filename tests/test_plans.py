@@ -103,7 +103,7 @@ class Wrong(Case):
             ((), None, "s"), (("a", "a"), None, "s"), (("a", "b", "a"), None, "s"), (("A",), None, "s"), (("a", ""), None, "s"),
             ("", None, "s"), ("a", None, "s"), ("nobody", None, "s"), ("all", None, "s"), ("None", None, "s"),
             (("a",), ["a"] * 9, "s"), (("a",), ["A"], "s"), (("a",), ["a", ""], "s"), (("a",), ["abcdefghi"], "s"),
-            (("a",), None, "u"), (("a",), None, ""), (("a",), None, "S"), ("none", ["a b"], "s"), ("else", None, "a"),
+            (("a",), None), (("a",), None, "s", "s"), (("a",), None, "u"), (("a",), None, ""), (("a",), None, "S"), ("none", ["a b"], "s"), ("else", None, "a"),
         ]
         for rule in wrong:
             self.fails(BadPlan("state", 0), Plan, ["a"], [("s", [rule]), ("S", [])])

@@ -141,6 +141,9 @@ class NextPositions(Case):
                     self.fails(UnknownPosition(position), next_positions, game, plan, position)
             for track in wrong:
                 self.fails(UnknownPosition((0, (0,), track, "s")), next_positions, game, plan, (0, (0,), track, "s"))
+        walk = Game(line(3), 1)
+        for position in [(), (0,), (0, (0,), (1,)), (0, (0,), (1,), "s", 0), ((0,), (0,), (1,), "s"), (0, 0, (1,), "s"), (0, (0,), 1, "s")]:
+            self.fails(UnknownPosition(position), next_positions, walk, plan, position)
         fly = Game(line(3), 2, travel="fly")
         for post in [(1, 0), (0, 0), (0, 1, 2)]:
             position = (0, post, (2,), "s")
