@@ -104,17 +104,18 @@ def alike(first, second):
         return []
     tellings = tellings_of([first, second])
     seen = {(first.start, second.start): True}
+    # The lists are gone through in the order of their lengths, so that the first difference ends a shortest one.
     ahead = [(first.start, second.start, [])]
-    while ahead:
-        later = []
-        for one, other, passed in ahead:
-            for told in tellings:
-                action, then = first(one, told)
-                other_action, other_then = second(other, told)
-                if action != other_action:
-                    return [*passed, told]
-                if (then, other_then) not in seen:
-                    seen[(then, other_then)] = True
-                    later.append((then, other_then, [*passed, told]))
-        ahead = later
+    at = 0
+    while at < len(ahead):
+        one, other, passed = ahead[at]
+        for told in tellings:
+            action, then = first(one, told)
+            other_action, other_then = second(other, told)
+            if action != other_action:
+                return [*passed, told]
+            if (then, other_then) not in seen:
+                seen[(then, other_then)] = True
+                ahead.append((then, other_then, [*passed, told]))
+        at += 1
     return None

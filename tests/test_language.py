@@ -6,6 +6,8 @@ import functools
 import pathlib
 import unittest
 
+from looping import CHANGING, changed_in_loops
+
 ROOT = pathlib.Path(__file__).resolve().parent.parent / "tagwebs"
 
 BUILTINS = set(
@@ -17,7 +19,6 @@ METHODS = set(
     "items join keys ljust lower lstrip partition pop remove replace reverse rfind rjust rpartition rsplit rstrip "
     "setdefault split splitlines startswith strip update upper values zfill bit_length".split()
 )
-CHANGING = set("append clear extend insert pop remove reverse setdefault update".split())
 BARRED = set(
     "register mro elements open input law version_info with_traceback add_note attrgetter breakpoint builtins compile "
     "copyright credits delattr dir eval exec exit gc globals help id importlib license locals methodcaller os quit "
@@ -215,16 +216,8 @@ class Parts(unittest.TestCase):
                     self.assertIsInstance(other, ast.Constant, name)
 
     def test_l23_what_is_iterated_is_not_changed(self):
-        for name, node in nodes(ast.For):
-            whole = ast.unparse(node.iter)
-            for part in ast.walk(node):
-                if isinstance(part, ast.Call) and isinstance(part.func, ast.Attribute) and part.func.attr in CHANGING:
-                    held = ast.unparse(part.func.value)
-                elif isinstance(part, ast.Subscript) and isinstance(part.ctx, ast.Store):
-                    held = ast.unparse(part.value)
-                else:
-                    continue
-                self.assertNotIn(held, [whole, whole.removesuffix(".items()")], (name, part.lineno))
+        for name, tree in trees():
+            self.assertEqual(changed_in_loops(tree), [], name)
 
     def test_l23_views_are_iterated_at_once(self):
         for name, tree in trees():
@@ -312,6 +305,67 @@ class Parts(unittest.TestCase):
                 self.assertTrue(ast.unparse(body[0]).startswith("return iter(self."), name)
             if node.name == "__eq__":
                 self.assertTrue(ast.unparse(node.body[-1]).startswith("return isinstance(other, "), name)
+
+
+class ChangedInLoops(unittest.TestCase):
+    """The check of L23 finds such rows, and only those."""
+
+    def finds(self, text, rows):
+        """Text is the rows of a function, which begin at row 2."""
+        text = "def function(self, xs, ys, k):\n" + "".join(f"    {row}\n" for row in text.splitlines())
+        self.assertEqual(changed_in_loops(ast.parse(text)), rows, text)
+
+    def test_by_its_name(self):
+        for head in ("xs", "enumerate(xs)", "zip(ys, xs)", "reversed(xs)", "xs.items()", "enumerate(xs.values())", "[*xs][0] or xs"):
+            for change in ("xs.append(x)", "xs.pop()", "xs[k] = x", "xs[k] += 1", "xs += [x]", "del xs[k]", "xs.setdefault(x, k)"):
+                self.finds(f"for x in {head}:\n    if x:\n        {change}", [4])
+        self.finds("for x in xs:\n    for y in ys:\n        xs.append(y)", [4])
+        self.finds("for y in ys:\n    for x in xs:\n        xs.append(y)\n    ys.append(x)", [4, 5])
+        self.finds("return [xs.pop() for y in ys for x in xs]", [2])
+        self.finds("return {x: xs.pop() for x in xs}", [2])
+
+    def test_by_another_name(self):
+        self.finds("while xs:\n    ys = []\n    for x in xs:\n        ys.append(x)\n    xs = ys", [5])
+        self.finds("while xs:\n    ys = {}\n    for x, y in xs.items():\n        ys[x] = y\n    xs = ys", [5])
+        self.finds("ys = xs\nfor x in xs:\n    ys.append(x)", [4])
+        self.finds("a = xs\nb = a\nfor x in b:\n    xs.append(x)", [5])
+        self.finds("a = b = xs\nfor x in b:\n    a.append(x)", [4])
+        self.finds("a, b = ys, xs\nfor x in b:\n    xs.append(x)\n    ys.append(x)", [4])
+        self.finds("(a, *b), c = (ys, k), xs\nfor x in c:\n    xs.append(x)\n    ys.append(x)", [4])
+        self.finds("if a := xs:\n    for x in a:\n        xs.append(x)", [4])
+
+    def test_by_a_field(self):
+        self.finds("for x in self.rows:\n    self.rows.append(x)", [3])
+        self.finds("rows = self.rows\nfor x in rows:\n    self.rows.append(x)", [4])
+        self.finds("for x in self.rows:\n    xs.append(x)\nself.rows = xs", [3])
+        self.finds("for x in self:\n    self.rows.append(x)", [3])
+        self.finds("for x in ys[k]:\n    ys[k].append(x)", [3])
+        self.finds("rows = ys[k]\nfor x in rows:\n    ys[k].append(x)", [4])
+
+    def test_by_a_choice(self):
+        self.finds("for x in xs if k else ys:\n    ys.append(x)", [3])
+        self.finds("for x in xs or ys:\n    xs.append(x)", [3])
+        self.finds("a = xs if k else ys\nfor x in a:\n    ys.append(x)", [4])
+        self.finds("a = k and xs\nfor x in xs:\n    a.append(x)", [4])
+        self.finds("for x in xs:\n    (ys if k else xs).append(x)", [3])
+
+    def test_what_is_allowed(self):
+        for text in (
+            "for x in xs:\n    ys.append(x)",
+            "for x in list(xs):\n    xs.append(x)",
+            "for x in sorted(xs.items()):\n    del xs[x[0]]",
+            "for x in xs[1:]:\n    xs.append(x)",
+            "ys = xs[:]\nfor x in ys:\n    xs.append(x)",
+            "ys = list(xs)\nfor x in ys:\n    xs.append(x)",
+            "for x in xs:\n    x.append(k)\nxs.append(k)",
+            "for k in range(len(xs)):\n    xs[k] = 0",
+            "while k < len(xs):\n    for x in ys:\n        xs.append(x)\n    k += 1",
+            "while xs:\n    x = xs.pop()\n    for y in ys[x]:\n        xs.append(y)",
+            "for x in self.rows:\n    self.other.append(x)",
+            "for x in xs:\n    ys[x] = k",
+            "xs.append(k)\nreturn [x for x in xs]",
+        ):
+            self.finds(text, [])
 
 
 if __name__ == "__main__":

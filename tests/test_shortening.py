@@ -195,6 +195,60 @@ class Alike(Case):
         self.assertEqual(len(found), 1)
         self.assertNotEqual(found, ["a"])
 
+    def test_a_shorter_list_behind_one_telling(self):
+        # Behind all other first tellings a difference comes too, but later. None of them is to be looked at whole before another.
+        ends = ("state t\nelse : stay then u\nstate u\nelse : stay then v\nstate v\nelse : go {0} then v\n"
+                "state y\ntold b : stay then x\nstate x\nnone : go {0} then x")
+        for rules, short in [("told c : stay then y\nelse : stay then t", "c"), ("told b : stay then y\nelse : stay then t", "b"),
+                             ("none : stay then y\nelse : stay then t", None),
+                             ("told b c : stay then t\nnone : stay then t\nelse : stay then y", "another")]:
+            text = f"begin\nstate s\n{rules}\n{ends}"
+            first, second = read_plan(text.format("a")), read_plan(text.format("b"))
+            for found in (self.keeps(alike, first, second), alike(second, first)):
+                self.assertEqual((len(found), found[1:]), (3, ["b", None]))
+                if short == "another":
+                    self.assertNotIn(found[0], ("b", "c", None))
+                else:
+                    self.assertEqual(found[0], short)
+
+    def test_exactly_two_tellings(self):
+        first = read_plan("begin\nstate s\ntold a : stay then t\nstate t\ntold b : go a then s")
+        for text in ("begin\nstate s", "begin\nstate s\ntold a : stay then t\nstate t\ntold b : go a a then s",
+                     "begin\nstate s\ntold a : stay then t\nstate t\ntold b : go then s"):
+            self.assertEqual(self.keeps(alike, first, read_plan(text)), ["a", "b"])
+            self.assertEqual(alike(read_plan(text), first), ["a", "b"])
+
+    def test_as_many_tellings_as_states(self):
+        names = [f"{one}{two}" for one in "st" for two in "abcdefghijklmnopqrst"]
+        still = read_plan("begin\nstate s")
+        for many in (2, 3, 20, 40):
+            states = [(names[at], [(("a",), None, names[at + 1])]) for at in range(many - 1)]
+            last = (names[many - 1], [("none", ["a"], names[0])])
+            plan = Plan([], [*states, last])
+            wanted = [*["a"] * (many - 1), None]
+            self.assertEqual(alike(plan, still), wanted)
+            self.assertEqual(alike(still, plan), wanted)
+            # With a first state more, to which all but c leads back, the list is one longer.
+            if many < 40:
+                more = Plan([], [("z", [(("c",), None, names[0])]), *states, last])
+                self.assertEqual(alike(more, still), ["c", *wanted])
+            self.assertIsNone(alike(plan, shortened(plan)))
+
+    def test_rings_of_states(self):
+        def ring(size, turn):
+            """A plan whose states follow one another in a ring; each turn-th one of them goes to a."""
+            names = [f"{one}{two}" for one in "st" for two in "abcdefghijklmnopqrst"][:size]
+            return Plan([], [(name, [("else", None if (at + 1) % turn else ["a"], names[(at + 1) % size])])
+                             for at, name in enumerate(names)])
+
+        self.assertIsNone(alike(ring(3, 3), ring(6, 3)))
+        self.assertIsNone(alike(ring(6, 3), ring(39, 3)))
+        for first, second, wanted in [(ring(3, 3), ring(5, 5), 3), (ring(5, 5), ring(4, 4), 4), (ring(39, 39), ring(40, 40), 39),
+                                      (ring(4, 4), ring(6, 4), 8), (ring(38, 2), ring(39, 2), 40)]:
+            self.assertEqual(len(self.keeps(alike, first, second)), wanted)
+            self.assertEqual(len(alike(second, first)), wanted)
+            self.assertNotEqual(shortened(first), shortened(second))
+
     def test_a_name_that_no_tells_have(self):
         first = read_plan("begin\nstate s\ntold a b : stay then s\nnone : stay then s\nelse : go a then s")
         second = read_plan("begin\nstate s\ntold c : go a then s")
